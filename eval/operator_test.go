@@ -141,6 +141,8 @@ func TestArithmetic(t *testing.T) {
 }
 
 func TestDivisionByZero(t *testing.T) {
+	wantBinary(t, api.EDiv, 5, 0, 0)
+	wantBinary(t, api.EMod, 5, 0, 0)
 	for _, a := range edges {
 		wantBinary(t, api.EDiv, a, 0, 0)
 		wantBinary(t, api.EMod, a, 0, 0)
